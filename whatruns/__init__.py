@@ -1,0 +1,1 @@
+"""Whatruns: what one meter tells about several devices that draw known watts."""
