@@ -170,7 +170,7 @@ class Table:
 
 
 # One to three devices; one tick and four; fewer devices at once than there are, as many, and more; houses that tell at
-# once, later and never, the last ones among them six ticks later, or never although no twins meet.
+# once, later and never, the last ones among them six ticks later, or never although the runs that differ do not meet.
 HOUSES = [
     (((1,),), 1),
     (((3, 1, 1, 2),), 1),
@@ -190,6 +190,9 @@ HOUSES = [
     (((9,), (9, 1), (9, 9, 9)), 3),
     (((1, 1), (1, 3), (2, 1)), 2),
     (((1, 1), (2, 1), (2, 3)), 2),
+    (((2,), (1, 4), (2, 1)), 3),
+    (((1,), (2, 1, 4), (2,)), 2),
+    (((1, 1), (2, 3), (2, 2, 1)), 2),
 ]
 
 # What is not a House, whatever else it is.

@@ -225,6 +225,19 @@ class TestKnown(unittest.TestCase):
             with self.subTest(ranks=ranks):
                 self.assertFalse(Known(2, ranks, ONE, OTHER).shows(house))
 
+    def test_pairs_that_are_no_twins_and_numbers_that_are_no_ranks(self):
+        house = House(*LATER)
+        pairs = [((2, 0), (1, 1)), ((1, 1), (1, 1)), ((1, 1), (2, 2)), ((1, 1),), ((1, 1), (2, 0), (2, 0)), (1, 2), 5,
+                 None, ((1, 1), (3, 0)), ((0, 3), (2, 0)), ((1, True), (2, 0)), ((1, 1), (2, False)), ((1,), (2, 0))]
+        for pair in pairs:
+            with self.subTest(pair=pair):
+                self.assertFalse(Known(2, RANKS | {pair: 0}, ONE, OTHER).shows(house))
+        for rank in (True, None, "0"):
+            with self.subTest(rank=rank):
+                self.assertFalse(Known(2, RANKS | {((1, 1), (2, 0)): rank}, ONE, OTHER).shows(house))
+        self.assertFalse(Known(True, {((0, 1), (1, 0)): 0}, [(0, 1)], [(1, 0)]).shows(House(((1, 2), (1, 3)), 1)))
+        self.assertTrue(Known(1, {((0, 1), (1, 0)): 0}, [(0, 1)], [(1, 0)]).shows(House(((1, 2), (1, 3)), 1)))
+
     def test_a_twin_whose_states_meet_has_no_rank(self):
         house = House(*MEETING)
         self.assertFalse(Known(1, {((0, 1), (1, 0)): 0}, [(0, 1)], [(1, 0)]).shows(house))

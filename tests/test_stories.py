@@ -257,6 +257,18 @@ class TestStory(unittest.TestCase):
             with self.subTest(floors=floors):
                 self.assertFalse(Story(states, floors).shows(house, shown))
 
+    def test_what_is_no_spot_or_no_floor(self):
+        house, right = House(*SINGLE), {(0, (0,)): 1}
+        for spot in [(True, (1,)), (1, (True,)), (1, (5,)), (1, 1), (1,), (1, (1,), 1), (-1, (0,)), None, (1, (1, 0))]:
+            with self.subTest(spot=spot):
+                self.assertFalse(Story([(1,)], right | {spot: 0}).shows(house, [3]))
+                self.assertFalse(NoStory([(0, (0,)), spot]).shows(house, [4, 0]))
+        self.assertFalse(NoStory([(0, (0,)), [1, (1,)]]).shows(house, [4, 0]))
+        self.assertTrue(NoStory([(0, (0,)), (1, (1,))]).shows(house, [4, 0]))
+        for floor in (True, None, "1"):
+            with self.subTest(floor=floor):
+                self.assertFalse(Story([(1,)], {(0, (0,)): floor}).shows(house, [3]))
+
     def test_two_starts_at_once_count_as_two(self):
         house, first = House(((1, 2), (1, 3)), 2), (0, (0, 0))
         self.assertTrue(Story([(1, 1)], {first: 2}).shows(house, [2]))

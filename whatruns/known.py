@@ -97,27 +97,22 @@ def _descends(moves, ranks, twin):
     return all([later in ranks and ranks[later] < ranks[twin] for later in _twins_after(moves, twin)])
 
 
-def _spread(moves, ways, differing):
-    """Note in ways, for all pairs of one kind that come of those in it, the pair before each of them."""
-    layer = list(ways)
+def _find_ways(house, moves):
+    """For each pair with the same reading to which two runs can come, the pair before it; None for the first one."""
+    first = (house.idle(), house.idle())
+    ways = {first: None}
+    layer = [first]
     while layer:
         fresh = []
         for pair in layer:
             for later in moves.pairs_after(pair):
-                if differs(later) == differing and later not in ways:
+                if later not in ways:
                     ways[later] = pair
                     fresh.append(later)
-        # Beside the pairs of each state with itself, ways has each twin twice: with either state first.
+        # Beside at most one pair for each state with itself, ways has each twin twice: with either state first.
         if len(ways) > len(moves.after) + 2 * MOST_TWINS:
             raise TooLarge("too many twins branch from states, or follow such twins")
         layer = fresh
-
-
-def _find_ways(house, moves):
-    """The pair before each pair, so that what leads to a branching twin is a run that both have in common."""
-    ways = {(house.idle(), house.idle()): None}
-    _spread(moves, ways, False)
-    _spread(moves, ways, True)
     return ways
 
 
