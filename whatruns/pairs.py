@@ -12,7 +12,7 @@ class Moves:
         self.after = {state: next_states(house, state) for state in states}
 
     def pairs_after(self, pair):
-        """The pairs with the same reading of a state that can come after the first one, and one after the second one."""
+        """The pairs, with the same reading, of a state that can come after the first one and one after the second."""
         first, second = pair
         found = [(one, other) for one in self.after[first] for other in self.after[second]]
         return [later for later in found if self.shown[later[0]] == self.shown[later[1]]]
