@@ -25,6 +25,13 @@ class TestErrors(unittest.TestCase):
             with self.subTest(name=name):
                 self.assertEqual(getattr(errors, name).__module__, "whatruns.errors")
 
+    def test_attributes_are_set(self):
+        for name, attribute in [("BadHouse", "part"), ("BadRun", "index"), ("BadReadings", "index"),
+                                ("BadSeen", "index"), ("BadText", "row")]:
+            for value in (None, 0, 4):
+                with self.subTest(name=name, value=value):
+                    self.assertEqual(vars(getattr(errors, name)(value)), {attribute: value})
+
 
 class TestInterface(unittest.TestCase):
 

@@ -123,8 +123,8 @@ class TestStates(unittest.TestCase):
     def test_what_is_no_state(self):
         house = House(((2, 1), (1, 2, 3)), 1)
         wrong = [None, 0, True, "00", b"00", [0, 0], [], {}, {0: 0, 1: 0}, (), (0,), (0, 0, 0), (-1, 0), (0, -1),
-                 (3, 0), (0, 4), (1, 1), (2, 3), (True, 0), (0, True), (False, False), ("0", 0), (0, None), ((0,), 0), ([], 0),
-                 (10 ** 30, 0), house, object()]
+                 (3, 0), (0, 4), (1, 1), (2, 3), (True, 0), (0, True), (False, False), ("0", 0), (0, None), ((0,), 0),
+                 ([], 0), (10 ** 30, 0), house, object()]
         for state in wrong:
             for function in (reading, steps):
                 with self.subTest(state=state, function=function.__name__):

@@ -283,7 +283,8 @@ class TestGemini(unittest.TestCase):
         self.assertTrue(found == Gemini(ONE, OTHER, 1))
         self.assertFalse(found != Gemini(ONE, OTHER, 1))
         for changed in [Gemini(ONE, OTHER, None), Gemini(ONE, OTHER, 0), Gemini(OTHER, ONE, 1),
-                        Gemini(ONE[:1], OTHER, 1), Gemini(ONE, OTHER[:1], 1), Known(1, {}, ONE, OTHER), NoStory(ONE), House(*LATER)]:
+                        Gemini(ONE[:1], OTHER, 1), Gemini(ONE, OTHER[:1], 1), Known(1, {}, ONE, OTHER), NoStory(ONE),
+                        House(*LATER)]:
             with self.subTest(changed=type(changed).__name__):
                 self.assertFalse(found == changed)
                 self.assertTrue(found != changed)
