@@ -104,7 +104,7 @@ def _find_ways(house, moves):
     layer = [first]
     while layer:
         fresh = []
-        for pair in layer:
+        for pair in list(layer):
             for later in moves.pairs_after(pair):
                 if later not in ways:
                     ways[later] = pair

@@ -104,7 +104,7 @@ def _search(house, shown):
     layer = [first]
     while layer:
         fresh = []
-        for spot in layer:
+        for spot in list(layer):
             for later in _leads(house, shown, spot):
                 made = fewest[spot] + started(later[1])
                 if later not in fewest:
