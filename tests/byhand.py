@@ -169,6 +169,91 @@ class Table:
         return found
 
 
+class Lit(Table):
+    """A house with lamps: what is seen in its states, and whether it is known at last what runs."""
+
+    def __init__(self, profiles, most, lamps):
+        Table.__init__(self, profiles, most)
+        self.lamps = lamps
+        self.seen = {state: (self.total[state], tuple(state[device] != 0 for device in lamps))
+                     for state in self.states}
+
+    def is_blur(self, pair):
+        first, second = pair
+        return first < second and self.seen[first] == self.seen[second]
+
+    def blurs(self):
+        return {pair for pair in combinations(self.states, 2) if self.is_blur(pair)}
+
+    def following_blurs(self, pair):
+        first, second = pair
+        pairs = {tuple(sorted((one, other))) for one in self.after[first] for other in self.after[second]}
+        return {later for later in pairs if self.is_blur(later)}
+
+    def forks(self):
+        return any(self.is_blur(pair) for state in self.states for pair in combinations(self.after[state], 2))
+
+    def ticks(self):
+        """The number of ticks, None if there is none, or 'LARGE' if there are more than 800 blurs."""
+        left = self.blurs()
+        if len(left) > 800:
+            return "LARGE"
+        if self.forks():
+            return None
+        length = 0
+        while left:
+            rest = {blur for blur in left if self.following_blurs(blur) & left}
+            if rest == left:
+                return None
+            length, left = length + 1, rest
+        return length
+
+    def is_track(self, states):
+        return all(later in self.after[state] for state, later in zip(states, states[1:]))
+
+    def look_alike(self, one, other):
+        return (self.is_track(one) and self.is_track(other)
+                and [self.seen[state] for state in one] == [self.seen[state] for state in other])
+
+    def shows_clears(self, ticks, ranks, one, other):
+        if ticks < 0 or self.forks() or any(blur not in ranks for blur in self.blurs()):
+            return False
+        for pair, rank in ranks.items():
+            if not 0 <= rank < ticks or not pair[0] < pair[1]:
+                return False
+            if any(later not in ranks or ranks[later] >= rank for later in self.following_blurs(pair)):
+                return False
+        if not self.look_alike(one, other) or len(one) != ticks:
+            return False
+        return all(first != second for first, second in zip(one, other))
+
+    def shows_clouds(self, one, other, back):
+        if not one or not self.look_alike(one, other) or one[-1] == other[-1]:
+            return False
+        if back is None:
+            return one[0] == other[0]
+        if back not in range(len(one) - 1):
+            return False
+        if any(one[at] == other[at] for at in range(back, len(one))):
+            return False
+        return one[back] == one[-1] and other[back] == other[-1]
+
+
+def all_lamps(profiles):
+    """All choices of lamps, the shorter ones first."""
+    devices = range(len(profiles))
+    return [lamps for many in range(len(profiles) + 1) for lamps in combinations(devices, many)]
+
+
+def ordered_choices(profiles, prices):
+    """All choices of lamps in the order of their prices."""
+    return sorted(all_lamps(profiles), key=lambda lamps: (cost(prices, lamps), len(lamps), lamps))
+
+
+def cost(prices, lamps):
+    return sum(prices[device] for device in lamps)
+
+
 # One to three devices; one tick and four; fewer devices at once than there are, as many, and more; houses that tell at
 # once, later and never, the last ones among them six ticks later, or never although the runs that differ do not meet.
 HOUSES = [
@@ -197,6 +282,11 @@ HOUSES = [
 
 # What is not a House, whatever else it is.
 NO_HOUSES = [None, 0, True, "house", b"", (), [], {}, ((1,),), (((1,),), 1), [(1,)], object()]
+
+# What are no lamps of a house with two devices, whatever else it is.
+NO_LAMPS = [None, 0, True, "", "0", b"", [], [0], {}, {0: True}, set(), range(1), object(), (2,), (-1,), (0, 2), (0, 0),
+            (1, 0), (0, 1, 1), (0, 1, 2), (True,), (False,), (0, True), (False, 1), (None,), ("0",), ((0,),), ([],),
+            (10 ** 30,)]
 
 
 def refused(error, function, *arguments):

@@ -97,6 +97,18 @@ def every_state(house):
     return [state for state in found if running(state) <= house.most]
 
 
+def _fact(states, device):
+    runs = [state[device] > 0 for state in states]
+    if all(runs):
+        return True
+    return None if any(runs) else False
+
+
+def facts_of(house, states):
+    """For each device, whether it runs in all of these states (True), in none of them (False), or neither (None)."""
+    return tuple([_fact(states, device) for device in range(len(house))])
+
+
 def _later_ticks(profile, tick):
     if tick == 0:
         return [0, 1]
@@ -129,6 +141,13 @@ def is_run(house, states):
     return _first_stray(house, states) is None
 
 
+def is_track(house, states):
+    """Whether this list is one of states each of which, but the first, can come next after the one before it."""
+    if not all([is_state(house, state) for state in states]):
+        return False
+    return all([later in next_states(house, state) for state, later in zip(states, states[1:])])
+
+
 def _check_run(house, states):
     check_house(house)
     if not isinstance(states, (list, tuple)):
@@ -138,21 +157,23 @@ def _check_run(house, states):
         raise BadRun(index)
 
 
-def _check_state(house, state):
-    check_house(house)
+def check_state(house, state):
+    """Raise BadState if this is not a state of the house."""
     if not is_state(house, state):
         raise BadState("this is not a state of the house")
 
 
 def reading(house, state):
     """What the meter shows in a state."""
-    _check_state(house, state)
+    check_house(house)
+    check_state(house, state)
     return watts(house, state)
 
 
 def steps(house, state):
     """The ascending list of the states that can come next after a state."""
-    _check_state(house, state)
+    check_house(house)
+    check_state(house, state)
     return next_states(house, state)
 
 

@@ -1,8 +1,9 @@
 """Whether the totals always tell what has run, and what shows that they do or do not."""
 
 from whatruns.errors import TooLarge
-from whatruns.houses import check_house, is_between, is_run, is_state, is_whole, watts
-from whatruns.pairs import Moves, ascending, differs, rank_pairs, way_to
+from whatruns.houses import check_house, is_between, is_run, is_whole, watts
+from whatruns.pairs import Moves, all_differ, ascending_ranks, descends, differs, go_on, go_round
+from whatruns.pairs import is_ascending_pair, rank_pairs, sides, way_to
 
 MOST_TWINS = 600
 
@@ -65,36 +66,22 @@ def _differ_for(house, one, other, delay):
     if not _look_alike(house, one, other) or len(one) < delay:
         return False
     behind = len(one) - delay
-    return all([first != second for first, second in zip(one[behind:], other[behind:])])
+    return all_differ(one[behind:], other[behind:])
 
 
 def _is_twin(house, pair):
-    if not isinstance(pair, tuple) or len(pair) != 2:
-        return False
-    first, second = pair
-    if not is_state(house, first) or not is_state(house, second):
-        return False
-    return first < second and watts(house, first) == watts(house, second)
+    return is_ascending_pair(house, pair) and watts(house, pair[0]) == watts(house, pair[1])
 
 
 def _are_ranks(house, ranks, delay):
     """Whether these are ranks below the delay that show that twins follow one another for so long at most."""
     if not all([_is_twin(house, twin) and is_between(ranks[twin], 0, delay - 1) for twin in ranks]):
         return False
-    moves = Moves(house)
-    branching = [twin for state in moves.after for twin in _twins_after(moves, (state, state))]
-    return all([twin in ranks for twin in branching]) and all([_descends(moves, ranks, twin) for twin in ranks])
-
-
-def _twins_after(moves, pair):
-    return [ascending(later) for later in moves.pairs_after(pair) if differs(later)]
-
-
-def _descends(moves, ranks, twin):
-    """Whether the states of a twin cannot meet, and each twin that follows it has a lesser rank."""
-    if moves.meetings(twin):
+    moves = Moves(house, ())
+    branching = [twin for state in moves.after for twin in moves.followers((state, state))]
+    if not all([twin in ranks for twin in branching]):
         return False
-    return all([later in ranks and ranks[later] < ranks[twin] for later in _twins_after(moves, twin)])
+    return all([not moves.meetings(twin) and descends(moves, ranks, twin) for twin in ranks])
 
 
 def _find_ways(house, moves):
@@ -119,7 +106,7 @@ def _find_ways(house, moves):
 def tell(house):
     """A Known if the totals always tell what has run, otherwise a Gemini."""
     check_house(house)
-    moves = Moves(house)
+    moves = Moves(house, ())
     ways = _find_ways(house, moves)
     twins = [pair for pair in ways if differs(pair)]
     for pair in twins:
@@ -130,20 +117,14 @@ def tell(house):
     ranks = rank_pairs(follows)
     for pair in twins:
         if pair not in ranks:
-            return _going_round(way_to(ways, pair), follows, ranks)
+            path = go_round(way_to(ways, pair), follows, ranks)
+            return _gemini(path, path.index(path[-1]))
     return _known(ways, follows, ranks)
 
 
 def _gemini(path, back):
-    return Gemini([pair[0] for pair in path], [pair[1] for pair in path], back)
-
-
-def _going_round(path, follows, ranks):
-    """Go on from the end of this path, always to a pair without a rank, until one comes again."""
-    path = list(path)
-    while path[-1] not in path[:-1]:
-        path.append([later for later in follows[path[-1]] if later not in ranks][0])
-    return _gemini(path, path.index(path[-1]))
+    one, other = sides(path)
+    return Gemini(one, other, back)
 
 
 def _known(ways, follows, ranks):
@@ -151,11 +132,8 @@ def _known(ways, follows, ranks):
         return Known(0, {}, [], [])
     # A pair of the highest rank follows no other twin, so it branches.
     top = max(ranks, key=lambda pair: ranks[pair])
-    path = way_to(ways, top)
-    while follows[path[-1]]:
-        path.append(max(follows[path[-1]], key=lambda pair: ranks[pair]))
-    twins = {pair: ranks[pair] for pair in sorted(ranks) if pair == ascending(pair)}
-    return Known(ranks[top] + 1, twins, [pair[0] for pair in path], [pair[1] for pair in path])
+    one, other = sides(go_on(way_to(ways, top), follows, ranks))
+    return Known(ranks[top] + 1, ascending_ranks(ranks), one, other)
 
 
 def does_tell(house):

@@ -1,7 +1,8 @@
 """Runs that explain readings with as few starts as possible, and what all such runs have in common."""
 
 from whatruns.errors import BadReadings
-from whatruns.houses import check_house, is_between, is_run, is_state, is_whole, next_states, started, watts
+from whatruns.houses import check_house, facts_of, is_between, is_run, is_state, is_whole
+from whatruns.houses import next_states, started, watts
 
 MOST_READINGS = 8
 MOST_SHOWN = 27
@@ -154,13 +155,6 @@ def _lasting(house, shown):
     return list(lasting)
 
 
-def _fact(states, device):
-    runs = [state[device] > 0 for state in states]
-    if all(runs):
-        return True
-    return None if any(runs) else False
-
-
 def facts(house, shown):
     """For each reading, what all runs with these readings agree on about each device; None if there is no run."""
     _check(house, shown)
@@ -169,6 +163,5 @@ def facts(house, shown):
         return None
     found = []
     for number in range(1, len(shown) + 1):
-        states = [spot[1] for spot in spots if spot[0] == number]
-        found.append(tuple([_fact(states, device) for device in range(len(house))]))
+        found.append(facts_of(house, [spot[1] for spot in spots if spot[0] == number]))
     return found
